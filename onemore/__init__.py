@@ -1,0 +1,1 @@
+"""Onemore: things that stay where their last user left them."""
