@@ -58,7 +58,7 @@ class NoLinks(YardError):
 
 
 class TooMany(YardError):
-    """More would be gone through than the most that was allowed; many tells how many."""
+    """More would be gone through than the most that was allowed; many tells that most."""
 
     def __init__(self, many):
         self.many = many

@@ -6,6 +6,7 @@ spot, or, once it is carried off (the spot is None), by none.
 """
 
 from onemore.errors import NoPlace, NoRoom
+from onemore.standings import changed, places_with_thing
 from onemore.yards import check_day_from, first_with_room, first_with_thing, has_room, is_place, is_whole
 
 INSTEAD = "instead"
@@ -118,16 +119,9 @@ def shows(yard, standing, day, place, thing):
     return is_same(thing, walk(yard, standing, day, place))
 
 
-def with_one_fewer(standing, place):
-    """Tell the standing with one thing of the place taken away."""
-    lying = list(standing)
-    lying[place] -= 1
-    return tuple(lying)
-
-
 def spare(yard, standing, day):
     """Tell the places where a thing lies of which one could be taken away, rising."""
     check_day_from(yard, standing, day)
-    places = [place for place, many in enumerate(standing) if many > 0]
+    places = places_with_thing(standing)
     # One fewer serves the same asks just where putting it back serves none anew.
-    return [place for place in places if not gained(yard, with_one_fewer(standing, place), day, place)]
+    return [place for place in places if not gained(yard, changed(standing, place, -1), day, place)]

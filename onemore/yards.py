@@ -1,6 +1,6 @@
 """Yards, their standings and days, and what a day does to a standing."""
 
-from onemore.errors import NoDay, NoStanding, NoYard
+from onemore.errors import NoDay, NoOpen, NoStanding, NoYard
 
 MOST_PLACES = 9
 
@@ -19,6 +19,11 @@ def is_count(thing):
 def is_place(yard, thing):
     """Tell of anything whether it is the number of a place of the yard."""
     return is_count(thing) and thing < len(yard)
+
+
+def is_number_of_ask(day, thing):
+    """Tell of anything whether it is the number of an ask of the day."""
+    return is_count(thing) and thing < len(day)
 
 
 def is_yard(thing):
@@ -68,13 +73,29 @@ def check_yard(yard):
         raise NoYard()
 
 
+def check_standing(yard, standing):
+    """Refuse what is no standing of the yard."""
+    if not is_standing(yard, standing):
+        raise NoStanding()
+
+
+def check_day(yard, day):
+    """Refuse what is no day of the yard."""
+    if not is_day(yard, day):
+        raise NoDay()
+
+
+def check_open(yard):
+    """Refuse a yard that has a bound."""
+    if any([room is not None for room in yard]):
+        raise NoOpen()
+
+
 def check_day_from(yard, standing, day):
     """Refuse what is no yard, no standing of it or no day of it, in this order."""
     check_yard(yard)
-    if not is_standing(yard, standing):
-        raise NoStanding()
-    if not is_day(yard, day):
-        raise NoDay()
+    check_standing(yard, standing)
+    check_day(yard, day)
 
 
 def has_room(yard, lying, place):

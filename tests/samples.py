@@ -1,7 +1,10 @@
 """Yards, standings, days and wrong things that several tests go through."""
 
-from itertools import permutations, product
+from itertools import combinations, permutations, product
 from random import Random
+
+from onemore.errors import YardError
+from onemore.yards import go
 
 BIG = 10 ** 15 - 1
 
@@ -37,6 +40,32 @@ def wrong_things():
         [((), None)], [(None, ())], [(0, 1)], [("", "")], [({0}, {1})], [((Odd(),), ())],
         (((0,), (1,)),), {"day": []}, [nested(38, lambda xs=(): tuple(xs))],
     ]
+
+
+def wrong_numbers():
+    """Things that are no whole number from 0 on."""
+    return [
+        None, True, False, -1, -BIG, 0.0, 1.0, 2.5, float("nan"), float("inf"), "", "0", b"0", (), (0,), [], [0], {},
+        {0: 0}, {0}, range(1), int, Odd(), 0j, nested(40, list),
+    ]
+
+
+def refusal(function, *arguments, **named):
+    """The class of what is raised, None where nothing is."""
+    try:
+        function(*arguments, **named)
+    except YardError as error:
+        return type(error)
+    return None
+
+
+def too_many(function, *arguments, **named):
+    """The field of the TooMany that is raised, None where nothing is."""
+    try:
+        function(*arguments, **named)
+    except YardError as error:
+        return error.many
+    return None
 
 
 def small_yards():
@@ -75,6 +104,15 @@ def drawn_case(seed):
     return yard, standing, [drawn_ask(draw, places, fewest) for _ in range(asks)]
 
 
+def drawn_small_case(seed, rooms):
+    """A yard of one to three places with such rooms, and a day of none to five asks, the same for each seed."""
+    draw = Random(seed)
+    places = draw.randint(1, 3)
+    yard = tuple(draw.choice(rooms) for _ in range(places))
+    fewest = draw.choice([0, places])
+    return yard, [drawn_ask(draw, places, fewest) for _ in range(draw.randint(0, 5))]
+
+
 def drawn_ask(draw, places, fewest):
     """An ask of a yard of so many places, that leaves at one of so many places at the fewest."""
     wants = draw.sample(range(places), draw.randint(0, min(places, 4)))
@@ -90,3 +128,31 @@ def places_with_room(yard, standing):
 def plus(standing, place, many=1):
     """The standing with so many more at the place."""
     return standing[:place] + (standing[place] + many,) + standing[place + 1:]
+
+
+def moments(yard, standing, day):
+    """The standings from ahead of the day to behind it, each ask a day of its own."""
+    told = [standing]
+    for ask in day:
+        told.append(go(yard, told[-1], [ask])[1])
+    return told
+
+
+def nowhere_more(one, other):
+    """Whether the one standing has nowhere more than the other."""
+    return all(many <= more for many, more in zip(one, other))
+
+
+def least_of(standings):
+    """Those of which none has nowhere more than another one and fewer somewhere, rising."""
+    return sorted(one for one in standings if not any(nowhere_more(less, one) for less in standings if less != one))
+
+
+def greatest_of(standings):
+    """Those of which none has nowhere fewer than another one and more somewhere, rising."""
+    return sorted(one for one in standings if not any(nowhere_more(one, more) for more in standings if more != one))
+
+
+def risings(numbers):
+    """All lists of some of the numbers, rising, unlike."""
+    return [list(row) for many in range(len(numbers) + 1) for row in combinations(numbers, many)]

@@ -33,7 +33,7 @@ class ErrorsTest(unittest.TestCase):
                 self.assertIsInstance(error, ValueError)
                 self.assertEqual(vars(error), {})
 
-    def test_too_many_holds_how_many(self):
+    def test_too_many_holds_its_field(self):
         error = errors.TooMany(5001)
         self.assertEqual(vars(error), {"many": 5001})
         self.assertRaises(TypeError, errors.TooMany)

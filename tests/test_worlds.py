@@ -5,7 +5,7 @@ from itertools import product
 
 from onemore.walks import differences, gained, shows, spare, walk
 from onemore.yards import go, is_standing, served
-from tests.samples import all_asks, drawn_case, places_with_room, plus, small_standings, small_yards
+from tests.samples import all_asks, drawn_case, moments, places_with_room, plus, small_standings, small_yards
 
 
 def links_of_two(lesser, greater):
@@ -19,14 +19,6 @@ def links_of_two(lesser, greater):
         if less is not None and more[1] != less[1]:
             links.append((number, "beside", less[1], more[1]))
     return links
-
-
-def moments(yard, standing, day):
-    """The standings from ahead of the day to behind it."""
-    told = [standing]
-    for ask in day:
-        told.append(go(yard, told[-1], [ask])[1])
-    return told
 
 
 def spot_of(less, more):

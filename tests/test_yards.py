@@ -3,10 +3,10 @@
 import unittest
 from enum import IntEnum
 
-from onemore.errors import NoDay, NoStanding, NoYard, YardError
+from onemore.errors import NoDay, NoStanding, NoYard
 from onemore.yards import go, is_day, is_standing, is_yard, served
-from tests.samples import BIG, all_asks, drawn_case, nested, places_with_room, small_standings, small_yards
-from tests.samples import wrong_things
+from tests.samples import BIG, all_asks, drawn_case, nested, places_with_room, refusal, small_standings
+from tests.samples import small_yards, wrong_things
 
 
 class Spot(IntEnum):
@@ -14,15 +14,6 @@ class Spot(IntEnum):
 
     FIRST = 0
     SECOND = 1
-
-
-def refusal(function, *arguments):
-    """The class of what is raised, None where nothing is."""
-    try:
-        function(*arguments)
-    except YardError as error:
-        return type(error)
-    return None
 
 
 class IsYardTest(unittest.TestCase):
