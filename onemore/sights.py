@@ -2,9 +2,10 @@
 
 from math import comb
 
-from onemore.errors import NoNumber, NoSight
-from onemore.standings import check_most, each_one_fewer, each_one_more, is_any_in, standings_within
-from onemore.yards import check_day, check_day_from, check_yard, is_count, serve
+from onemore.errors import NoSight
+from onemore.standings import check_count, check_most, each_one_fewer, each_one_more, is_any_in, standings_within
+from onemore.standings import tops_of
+from onemore.yards import check_day, check_day_from, check_yard, serve
 
 
 def is_sight(day, thing):
@@ -37,18 +38,12 @@ def can_be(yard, standing, day, sight):
     return is_so(yard, standing, day, sight)
 
 
-def tops_of(yard, things):
-    """Tell for each place how many of so many things can lie there."""
-    return [things if room is None else min(room, things) for room in yard]
-
-
 def seen(yard, day, sight, things, *, most=5000):
     """Tell the tuple (least, greatest): the bounds of the standings of so many things that show the sight."""
     check_yard(yard)
     check_day(yard, day)
     check_sight(day, sight)
-    if not is_count(things):
-        raise NoNumber()
+    check_count(things)
     check_most(most, comb(things + len(yard), len(yard)))
     standings = standings_within(tops_of(yard, things), things)
     found = {standing: True for standing in standings if is_so(yard, standing, day, sight)}

@@ -31,12 +31,28 @@ def is_any_in(standings, found):
     return any([standing in found for standing in standings])
 
 
-def check_most(most, many):
-    """Refuse a most that is no whole number from 1 on, then more standings than that."""
+def check_number_of_most(most):
+    """Refuse a most that is no whole number from 1 on."""
     if not is_count(most) or most == 0:
         raise NoNumber()
+
+
+def check_most(most, many):
+    """Refuse a most that is no whole number from 1 on, then more standings than that."""
+    check_number_of_most(most)
     if many > most:
         raise TooMany(most)
+
+
+def check_count(thing):
+    """Refuse what is no whole number from 0 on."""
+    if not is_count(thing):
+        raise NoNumber()
+
+
+def tops_of(yard, things):
+    """Tell for each place how many of so many things can lie there."""
+    return [things if room is None else min(room, things) for room in yard]
 
 
 def standings_within(tops, things):
@@ -45,3 +61,10 @@ def standings_within(tops, things):
     for top in tops:
         begun = [begin + (many,) for begin in begun for many in range(min(top, things - sum(begin)) + 1)]
     return begun
+
+
+def standings_of(tops, things):
+    """Tell all standings of at most the top at each place and of just so many things, rising."""
+    # The last place has what the others leave, so that its things need not be counted through.
+    begun = standings_within(tops[:-1], things)
+    return [begin + (things - sum(begin),) for begin in begun if things - sum(begin) <= tops[-1]]

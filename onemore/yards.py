@@ -16,14 +16,19 @@ def is_count(thing):
     return is_whole(thing) and thing >= 0
 
 
+def is_count_below(many, thing):
+    """Tell of anything whether it is a whole number from 0 on, and less than so many."""
+    return is_count(thing) and thing < many
+
+
 def is_place(yard, thing):
     """Tell of anything whether it is the number of a place of the yard."""
-    return is_count(thing) and thing < len(yard)
+    return is_count_below(len(yard), thing)
 
 
 def is_number_of_ask(day, thing):
     """Tell of anything whether it is the number of an ask of the day."""
-    return is_count(thing) and thing < len(day)
+    return is_count_below(len(day), thing)
 
 
 def is_yard(thing):
@@ -44,6 +49,13 @@ def is_standing(yard, thing):
     if not isinstance(thing, tuple) or len(thing) != len(yard):
         return False
     return all([fits(room, many) for room, many in zip(yard, thing)])
+
+
+def is_open_standing(thing):
+    """Tell of anything whether it is a standing of a yard without bounds, of as many places as it has."""
+    if not isinstance(thing, tuple) or not 1 <= len(thing) <= MOST_PLACES:
+        return False
+    return all([is_count(many) for many in thing])
 
 
 def are_unlike_places(yard, thing):
@@ -76,6 +88,12 @@ def check_yard(yard):
 def check_standing(yard, standing):
     """Refuse what is no standing of the yard."""
     if not is_standing(yard, standing):
+        raise NoStanding()
+
+
+def check_open_standing(standing):
+    """Refuse what is no standing of any yard without bounds."""
+    if not is_open_standing(standing):
         raise NoStanding()
 
 
@@ -134,14 +152,19 @@ def serve(yard, lying, ask):
     return place, other
 
 
-def go(yard, standing, day):
-    """Tell the tuple (log, end) of a day that begins with the standing."""
-    check_day_from(yard, standing, day)
+def gone(yard, standing, day):
+    """Tell the tuple (log, end) as go does, of what has been checked already."""
     lying = list(standing)
     log = []
     for ask in day:
         log.append(serve(yard, lying, ask))
     return log, tuple(lying)
+
+
+def go(yard, standing, day):
+    """Tell the tuple (log, end) of a day that begins with the standing."""
+    check_day_from(yard, standing, day)
+    return gone(yard, standing, day)
 
 
 def served(yard, standing, day):

@@ -120,6 +120,26 @@ def drawn_ask(draw, places, fewest):
     return tuple(wants), tuple(leaves)
 
 
+def drawn_open_case(seed):
+    """A yard of one to nine places without bounds, a standing and a day, the same for each seed."""
+    yard, standing, day = drawn_case(seed)
+    return (None,) * len(yard), standing, day
+
+
+def drawn_wide_ask(draw, places):
+    """A wide ask of so many places."""
+    return [(place, draw.randrange(places)) for place in draw.sample(range(places), draw.randint(0, places))]
+
+
+def drawn_wide_case(seed):
+    """A standing of one to nine places and a day of wide asks, the same for each seed."""
+    draw = Random(seed)
+    places = draw.randint(1, 9)
+    top = draw.choice([0, 1, 2, BIG])
+    standing = tuple(draw.randint(0, top) for _ in range(places))
+    return standing, [drawn_wide_ask(draw, places) for _ in range(draw.choice([0, 1, 5, 20, 60]))]
+
+
 def places_with_room(yard, standing):
     """The places where one thing more can lie."""
     return [place for place, room in enumerate(yard) if room is None or standing[place] < room]
@@ -156,3 +176,10 @@ def greatest_of(standings):
 def risings(numbers):
     """All lists of some of the numbers, rising, unlike."""
     return [list(row) for many in range(len(numbers) + 1) for row in combinations(numbers, many)]
+
+
+def lists_within(thing):
+    """All lists within what was told, itself too, each as often as it stands there."""
+    if not isinstance(thing, (list, tuple)):
+        return []
+    return [thing] * isinstance(thing, list) + [row for part in thing for row in lists_within(part)]
